@@ -1,0 +1,1 @@
+"""Three zones, their orders, and what lines really carry."""
