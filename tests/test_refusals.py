@@ -2,18 +2,33 @@
 
 import unittest
 
-from helper import CLEAR, LOADS, OPEN, PRICES, SHARES, ask, buy, cancel, last, line, rooms, sell
+from helper import (ALONE, BOOK, CLEAR, CORNERS, LOADS, MONEY, OPEN, PLAIN, PRICES, SHARES, ask, buy, cancel, check,
+                    last, line, price_range, rooms, row, sell, supports, without)
 
 HUGE = 10 ** 18
 BLANK = [0, 0, 1, 0, 1, 0, 1]
+
+NUMERATOR = (-10 ** 12, 10 ** 12)
+DENOMINATOR = (1, 10 ** 9)
+POINT = [(2,) + NUMERATOR, (3,) + DENOMINATOR, (4,) + NUMERATOR, (5,) + DENOMINATOR, (6,) + NUMERATOR,
+         (7,) + DENOMINATOR]
 
 # Each with a place, the least and the greatest number there, and a call that's in range.
 BOUNDS = [
     (line(0, 0, 0, 0), [(1, -1000, 1000), (2, -1000, 1000), (3, -1000, 1000), (4, 0, 1000000)]),
     (rooms(1, 0), [(1, 1, 4), (2, 0, 1000000)]),
     (sell(1, 0, 1), [(1, 1, 3), (2, 0, 1), (3, -1000000, 1000000), (4, 1, 1000000)]),
+    (check(0, 0, 0), POINT),
+    (supports(0, 0, 0), POINT),
+    (without(1), [(1, 1, 4)]),
+    (price_range(1), [(1, 1, 3)]),
 ]
 FOUR_LINES = [line(1, 2, 3, 4)] * 4
+BARE_REPORTS = [CLEAR, PRICES, SHARES, LOADS, MONEY, CORNERS, PLAIN, ALONE, BOOK]
+REPORTS = BARE_REPORTS + [check(0, 0, 0), supports(0, 0, 0), without(1)] + [price_range(zone) for zone in (1, 2, 3)]
+
+# The start of each is a point that is in range.
+LONGER = [1, 2, -3, 4, 2, 4] + [1] * 94
 
 
 def put(call, place, number):
@@ -22,8 +37,8 @@ def put(call, place, number):
 
 class NoNet(unittest.TestCase):
     def test_each_call_ahead_of_the_first_net(self):
-        calls = [line(0, 0, 0, 0), rooms(1, 0), sell(1, 0, 1), buy(1, 0, 1), cancel(1), CLEAR, PRICES, SHARES, LOADS]
-        self.assertEqual(ask(*calls), [[-2]] * 9)
+        calls = [line(0, 0, 0, 0), rooms(1, 0), sell(1, 0, 1), buy(1, 0, 1), cancel(1)] + REPORTS
+        self.assertEqual(ask(*calls), [[-2]] * 20)
 
     def test_they_leave_nothing_behind(self):
         told = ask(line(0, 0, 0, 0), sell(1, 0, 1), OPEN, SHARES, LOADS, line(0, 0, 0, 0), sell(1, 0, 1))
@@ -47,6 +62,11 @@ class NoNet(unittest.TestCase):
         for number in (-HUGE, -1, 0, 1, HUGE):
             self.assertEqual(ask(cancel(number)), [[-2]])
 
+    def test_a_point_of_another_count_goes_first(self):
+        for call in (11, 12):
+            for count in range(101):
+                self.assertEqual(ask((call,) + row(LONGER[:count])), [[-2] if count == 6 else [-1]], count)
+
 
 class Bounds(unittest.TestCase):
     def test_each_bound_and_one_beyond(self):
@@ -55,7 +75,7 @@ class Bounds(unittest.TestCase):
                 for number, good in ((least, True), (greatest, True), (least - 1, False), (greatest + 1, False),
                                      (-HUGE, False), (HUGE, False)):
                     with self.subTest(call=call, place=place, number=number):
-                        lines = FOUR_LINES if call[0] == 2 else []
+                        lines = FOUR_LINES if call[0] in (2, 13) else []
                         self.assertEqual(last(*lines, put(call, place, number))[0], 0 if good else -1)
 
     def test_every_bound_together(self):
@@ -70,6 +90,38 @@ class Bounds(unittest.TestCase):
         self.assertEqual(last(rooms(1, -1)), [-1])
         self.assertEqual(last(rooms(5, 0)), [-1])
         self.assertEqual(last(rooms(0, 0)), [-1])
+        self.assertEqual(last(without(5)), [-1])
+        self.assertEqual(last(without(0)), [-1])
+
+
+class Points(unittest.TestCase):
+    def test_of_another_count(self):
+        for call in (11, 12):
+            for count in range(101):
+                with self.subTest(call=call, count=count):
+                    told = last((call,) + row(LONGER[:count]))
+                    self.assertEqual(told[0], 0 if count == 6 else -1)
+                    self.assertEqual(len(told), 2 if count == 6 else 1)
+
+    def test_of_another_count_with_numbers_out_of_range(self):
+        for call in (11, 12):
+            for numbers in ([HUGE], [-HUGE] * 5, [HUGE] * 6, [0] * 7, [0] * 100, [HUGE] * 100, [-HUGE] * 100):
+                self.assertEqual(ask((call,) + row(numbers), OPEN, (call,) + row(numbers), BOOK),
+                                 [[-1], [0], [-1], [0, 0]])
+
+    def test_every_bound_together(self):
+        for call in (11, 12):
+            self.assertEqual(last((call,) + row([10 ** 12, 10 ** 9] * 3)), [0, 1])
+            self.assertEqual(last((call,) + row([-10 ** 12, 10 ** 9] * 3)), [0, 1])
+            self.assertEqual(last((call,) + row([10 ** 12, 1] * 3)), [0, 1])
+            self.assertEqual(last((call,) + row([-10 ** 12, 1] * 3)), [0, 1])
+
+    def test_calls_behind_them_are_found(self):
+        for count in (0, 1, 5, 6, 7, 99, 100):
+            point = row([0, 0, 17, 17, 17, 17, 0] + [17] * 93)[:1 + count]
+            told = ask(OPEN, (11, count) + point[1:], sell(1, 5, 5), (12, count) + point[1:], BOOK)
+            self.assertEqual(told[2], [0, 1])
+            self.assertEqual(told[4], [0, 0, 1, 1, 0, 5, 5])
 
 
 class Lines(unittest.TestCase):
@@ -152,19 +204,21 @@ class Reopened(unittest.TestCase):
 class Refused(unittest.TestCase):
     def test_everything_is_as_it_was(self):
         net = [OPEN, line(1000, 200, 0, 3), sell(1, 10, 7), buy(2, 30, 5), buy(3, 20, 6)]
-        reports = [CLEAR, PRICES, SHARES, LOADS]
-        wrong = [line(0, 0, 2000, 0), rooms(2, 0), rooms(1, -1), rooms(5, 0), sell(1, 0, 0), (3, 1, 2, 0, 1), cancel(4)]
+        wrong = [line(0, 0, 2000, 0), rooms(2, 0), rooms(1, -1), rooms(5, 0), sell(1, 0, 0), (3, 1, 2, 0, 1), cancel(4),
+                 (11,) + row([0, 1] * 2), (12,) + row([0, 0] * 3), without(2), without(5), price_range(4)]
         for call in wrong:
             with self.subTest(call=call):
-                told = ask(*net, *reports, call, *reports)
-                self.assertLess(told[9][0], 0)
-                self.assertEqual(len(told[9]), 1)
-                self.assertEqual(told[10:], told[5:9])
+                told = ask(*net, *REPORTS, call, *REPORTS)
+                self.assertEqual(len(told), 36)
+                self.assertLess(told[20][0], 0)
+                self.assertEqual(len(told[20]), 1)
+                self.assertEqual(told[21:], told[5:20])
 
     def test_asking_changes_nothing(self):
         net = [OPEN, line(1000, 200, 0, 3), sell(1, 10, 7), buy(2, 30, 5), buy(3, 20, 6)]
-        told = ask(*net, CLEAR, PRICES, SHARES, LOADS, LOADS, SHARES, PRICES, CLEAR)
-        self.assertEqual(told[5:9], told[:8:-1])
+        told = ask(*net, *REPORTS, *REPORTS[::-1], line(1, 1, 1, 1), cancel(2), sell(1, 1, 1))
+        self.assertEqual(told[5:20], told[20:35][::-1])
+        self.assertEqual(told[35:], [[0, 2], [0], [0, 4]])
 
 
 if __name__ == "__main__":

@@ -1,26 +1,11 @@
 """The house: answers calls on one net, one behind another."""
 
-from zonelines.exports import net_exports, worth_of
-from zonelines.ladder import ladders_of
 from zonelines.layout import call_end, is_well_formed
 from zonelines.net import Net
-from zonelines.pricing import supporting_prices
-from zonelines.ratio import lowest
-
-MALFORMED = -1
-NO_NET = -2
-NOT_THERE = -3
-FULL = -4
+from zonelines.refusals import FULL, MALFORMED, NOT_THERE, NO_NET
+from zonelines.reports import report
 
 NEW_NET = 0
-
-
-def point_answer(point):
-    """Three fractions over one bottom, each in lowest terms."""
-    answer = []
-    for top in point[:3]:
-        answer.extend(lowest(top, point[3]))
-    return answer
 
 
 def line_call(net, numbers):
@@ -50,42 +35,7 @@ def cancel_call(net, numbers):
     return [0]
 
 
-def clear_call(net):
-    ladders = ladders_of(net.orders)
-    exports = net_exports(net.lines, ladders)
-    return [0] + point_answer(exports) + lowest(worth_of(exports, ladders), exports[3])
-
-
-def prices_call(net):
-    ladders = ladders_of(net.orders)
-    exports = net_exports(net.lines, ladders)
-    return [0] + point_answer(supporting_prices(exports, net.lines, ladders))
-
-
-def shares_call(net):
-    ladders = ladders_of(net.orders)
-    exports = net_exports(net.lines, ladders)
-    shares = {}
-    for k, ladder in enumerate(ladders):
-        shares.update(ladder.shares(exports[k], exports[3]))
-    answer = [0]
-    for order in net.orders:
-        answer.extend(lowest(shares[order.number], exports[3]))
-    return answer
-
-
-def loads_call(net):
-    exports = net_exports(net.lines, ladders_of(net.orders))
-    answer = [0]
-    for line in net.lines:
-        load = sum([factor * export for factor, export in zip(line.factors, exports[:3])])
-        answer.extend(lowest(load, 1000 * exports[3]))
-        answer.append(line.room)
-    return answer
-
-
 CHANGES = {1: line_call, 2: rooms_call, 3: order_call, 4: cancel_call}
-REPORTS = {5: clear_call, 6: prices_call, 7: shares_call, 8: loads_call}
 
 
 class House:
@@ -105,7 +55,7 @@ class House:
             return [NO_NET]
         if call[0] in CHANGES:
             return CHANGES[call[0]](self.net, call[1:])
-        return REPORTS[call[0]](self.net)
+        return report(self.net, call[0], call[1:])
 
 
 def answers(calls):

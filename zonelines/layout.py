@@ -1,10 +1,7 @@
 """How calls lie in the list that is handed in, and which numbers they may have."""
 
-# Every call of the document is laid out here, also one that isn't answered yet:
-# the calls behind it are found by its length.
-PLAIN_NUMBERS = (0, 4, 2, 4, 1, 0, 0, 0, 0, 0, 0, 0, 0, 1, 1, 0, 0, 0)
-CALLS_WITH_A_POINT = (11, 12)
-
+# A point's row is told with how many numbers it has ahead of it: a row of any other count is
+# refused like a number out of its range.
 RANGES = {
     0: (),
     1: ((-1000, 1000), (-1000, 1000), (-1000, 1000), (0, 1000000)),
@@ -15,7 +12,23 @@ RANGES = {
     6: (),
     7: (),
     8: (),
+    9: (),
+    10: (),
+    11: ((6, 6),
+         (-1000000000000, 1000000000000), (1, 1000000000),
+         (-1000000000000, 1000000000000), (1, 1000000000),
+         (-1000000000000, 1000000000000), (1, 1000000000)),
+    12: ((6, 6),
+         (-1000000000000, 1000000000000), (1, 1000000000),
+         (-1000000000000, 1000000000000), (1, 1000000000),
+         (-1000000000000, 1000000000000), (1, 1000000000)),
+    13: ((1, 4),),
+    14: ((1, 3),),
+    15: (),
+    16: (),
+    17: (),
 }
+CALLS_WITH_A_POINT = (11, 12)
 
 
 def call_end(calls, start):
@@ -23,7 +36,7 @@ def call_end(calls, start):
     number = calls[start]
     if number in CALLS_WITH_A_POINT:
         return start + 2 + calls[start + 1]
-    return start + 1 + PLAIN_NUMBERS[number]
+    return start + 1 + len(RANGES.get(number, ()))
 
 
 def is_well_formed(call):

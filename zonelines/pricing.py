@@ -63,6 +63,20 @@ def way_rows(exports, lines):
     return [[first, second, -first - second, 0] for first, second in ways]
 
 
+def price_rows(exports, lines, ladders):
+    """All that prices must keep to for supporting the net exports."""
+    return order_rows(exports, ladders) + way_rows(exports, lines)
+
+
+def are_supporting(prices, exports, lines, ladders):
+    """Whether the prices support the net exports."""
+    first, second, third, bottom = prices
+    for a, b, c, bound in price_rows(exports, lines, ladders):
+        if a * first + b * second + c * third < bound * bottom:
+            return False
+    return True
+
+
 def without_price(rows, place):
     """What rows ask of the prices ahead of the one at place, the last: that some price there fits."""
     kept = [row[:place] + row[place + 1:] for row in rows if row[place] == 0]
@@ -94,7 +108,7 @@ def nearest(rows, tops, bottom):
 
 def supporting_prices(exports, lines, ladders):
     """The prices, nearest to 0 zone by zone, each times a bottom above 0, then that bottom."""
-    for_three = order_rows(exports, ladders) + way_rows(exports, lines)
+    for_three = price_rows(exports, lines, ladders)
     for_two = without_price(for_three, 2)
     for_one = without_price(for_two, 1)
     tops = []
