@@ -94,6 +94,12 @@ class Bounds(unittest.TestCase):
         self.assertEqual(last(without(0)), [-1])
 
 
+class NoSuchCall(unittest.TestCase):
+    def test_ahead_of_the_first_net_and_on_it(self):
+        for number in (-HUGE, -1, 18, 19, HUGE):
+            self.assertEqual(ask((number,), OPEN, (number,), BOOK), [[-1], [0], [-1], [0, 0]])
+
+
 class Points(unittest.TestCase):
     def test_of_another_count(self):
         for call in (11, 12):

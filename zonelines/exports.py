@@ -1,4 +1,4 @@
-"""Exports that are let, exports that are possible, and of these the net exports.
+"""Exports that are let and their corners, exports that are possible, and of these the net exports.
 
 Exports are handed on as (x1, x2, x3, bottom): each zone's export times bottom, which is
 above 0. Zone 3's export is 0 less the other two, so balanced exports are a plane, and a
